@@ -1,0 +1,1 @@
+"""Lackstretch: numbers without told stretches of figures."""
