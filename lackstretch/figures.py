@@ -100,5 +100,4 @@ def number_by(base, figures):
 
 def is_good(rule, n):
     check_rule(rule)
-    check_number(n)
     return lacks_all(rule[1], figures_of(rule[0], n))

@@ -25,7 +25,7 @@ def stands_of(bad):
             stand = stretch[:size]
             if stand not in found and lacks_all(bad, stand):
                 found.append(stand)
-    return sorted(found, key=lambda stand: (len(stand), stand))
+    return sorted(found, key=lambda each: (len(each), each))
 
 
 # The kinds are asked first: to Python [True] and [1] are alike.
