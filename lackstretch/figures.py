@@ -13,6 +13,10 @@ def is_whole(thing):
     return isinstance(thing, int) and not isinstance(thing, bool)
 
 
+def is_number(thing):
+    return is_whole(thing) and thing >= 0
+
+
 def is_base(thing):
     return is_whole(thing) and LEAST_BASE <= thing <= GREATEST_BASE
 
@@ -59,7 +63,7 @@ def check_base(thing):
 
 
 def check_number(thing):
-    if not is_whole(thing) or thing < 0:
+    if not is_number(thing):
         raise NoNumber("a number is a whole number from 0 on")
 
 

@@ -5,7 +5,10 @@ import unittest
 
 from lackstretch.errors import LackError
 from lackstretch.figures import figures_of, is_good, is_rule, number_by
+from lackstretch.lengths import count_long, greatest_good, greatest_long, is_endless, least_long, sum_long
 from lackstretch.stands import all_stands, stand_behind, step_from
+from lackstretch.sums import figures_below, often_below, sum_below
+from lackstretch.which import count_below, good_by, last_good, next_good, place_of
 from tests.things import rule_by, some_rules
 
 
@@ -31,6 +34,28 @@ def calls():
     ]
 
 
+def by_rules():
+    """A call and what is handed in, each of all that tells a number or a truth of a rule; some are refused."""
+    told = []
+    for rule in [rule_by(10, "1234", "237", "9"), rule_by(10, "00", "13", "7"), (2, [[0], [1]]), (2, []),
+                 rule_by(2, "0", "111"), rule_by(2, "10"), (10, [[7], [1]]), [10, [[1]]]]:
+        for n in [0, 1, 7, 60, 1234, 10 ** 25, -1, True, [1]]:
+            told += [(call, (rule, n)) for call in [count_below, good_by, place_of, next_good, last_good, sum_below,
+                                                    figures_below, count_long, least_long, greatest_long, sum_long]]
+            told += [(often_below, (rule, n, 1)), (often_below, (rule, n, [1]))]
+        told += [(is_endless, (rule,)), (greatest_good, (rule,))]
+    return told
+
+
+def answer(call, handed):
+    """What is told or refused; the kind too, as to Python True is 1."""
+    try:
+        told = call(*handed)
+    except LackError as refusal:
+        return type(refusal)
+    return (type(told), told)
+
+
 def lists_within(thing):
     told = [thing] if isinstance(thing, list) else []
     if isinstance(thing, (list, tuple)):
@@ -41,7 +66,7 @@ def lists_within(thing):
 
 class Copies(unittest.TestCase):
     def test_what_is_handed_in_stays(self):
-        whole = calls() + [
+        whole = calls() + by_rules() + [
             (number_by, (10, [1, 2, 3])), (number_by, (10, [0, 1])), (is_rule, ((10, [[7], [1]]),)),
             (is_rule, (rule_by(10, "1", "2"),)), (is_good, (rule_by(10, "12", "3"), 312)),
             (stand_behind, (rule_by(10, "12"), [1, 2])), (stand_behind, (rule_by(10, "12"), [1, True])),
@@ -84,6 +109,22 @@ class Copies(unittest.TestCase):
         self.assertIs(is_good(rule, 52), False)
         rule[1].append([5, 2])
         self.assertIs(is_rule(rule), False)
+
+    def test_the_same_again_is_answered_the_same_by_a_rule(self):
+        first = [answer(call, handed) for call, handed in by_rules()]
+        again = [answer(call, handed) for call, handed in reversed(by_rules())]
+        self.assertEqual(list(reversed(again)), first)
+
+    def test_a_rule_that_was_changed_is_another_one(self):
+        rule = (10, [[1], [2]])
+        self.assertEqual(count_below(rule, 10), 8)
+        rule[1].append([3])
+        rule[1][0].append(0)
+        self.assertEqual(count_below(rule, 10), 8)
+        self.assertEqual(good_by(rule, 1), 1)
+        self.assertEqual(sum_below(rule, 10), 40)
+        self.assertEqual(count_long(rule, 1), 8)
+        self.assertEqual(count_below(rule, 11), 8)
 
     def test_the_same_again_is_answered_the_same(self):
         for rule in some_rules(60):

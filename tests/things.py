@@ -41,6 +41,10 @@ def is_int(thing):
     return type(thing) is int
 
 
+def no_numbers():
+    return [thing for thing in anything() if not (is_int(thing) and thing >= 0)]
+
+
 def text_of(figures):
     return "".join(SIGNS[figure] for figure in figures)
 
