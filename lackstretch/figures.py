@@ -72,6 +72,10 @@ def check_rule(thing):
         raise NoRule("a rule is a tuple of a base and a rising list of none to four stretches")
 
 
+def copy_of(rule):
+    return (rule[0], [list(stretch) for stretch in rule[1]])
+
+
 def stands_within(stretch, figures):
     size = len(stretch)
     return any([figures[k:k + size] == stretch for k in range(len(figures) - size + 1)])

@@ -39,13 +39,15 @@ class Tails:
 
     def layer(self, left):
         while len(self.layers) <= left:
-            shorter = len(self.layers) - 1
-            self.layers.append([self.many_under(place, self.base, shorter) for place in range(self.outset + 1)])
+            shorter = self.layers[-1]
+            self.layers.append([self.many_by(shorter, place, self.base) for place in range(self.outset + 1)])
         return self.layers[left]
 
-    def many_under(self, place, stop, left):
-        layer = self.layer(left)
+    def many_by(self, layer, place, stop):
         return sum([layer[behind] for behind in self.steps[place][:stop] if behind is not None])
+
+    def many_under(self, place, stop, left):
+        return self.many_by(self.layer(left), place, stop)
 
     # A number below has a lesser figure where it is first unlike these.
     def many_below(self, figures):

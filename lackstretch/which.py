@@ -10,16 +10,19 @@ def count_below(rule, n):
     return Tails(rule).many_below(figures_of(rule[0], n))
 
 
-def good_by(rule, k):
-    check_rule(rule)
+def good_at(tails, k):
     check_number(k)
-    tails = Tails(rule)
     for size in range(MOST_FIGURES + 1):
         if tails.many_within(size) > k:
             return tails.number_at(size, k)
     if tails.are_endless():
         raise TooMany("the good number of this place has more than sixty figures")
     return None
+
+
+def good_by(rule, k):
+    check_rule(rule)
+    return good_at(Tails(rule), k)
 
 
 def place_of(rule, n):

@@ -2,7 +2,8 @@
 
 `faults(texts)` takes a dict of texts by file names within the package and tells a sorted list of tuples (rule, file,
 row). Where a rule leaves a choice that the package doesn't need (annotations, sets that are written out), the reading
-is narrower than the rule. What no reading sees (how deep a recursion goes, what an error's words are) is left out.
+is narrower than the rule; so it is of recursion, which it lets none be. What no reading sees (what an error's words
+are) is left out.
 """
 
 import ast
@@ -202,6 +203,19 @@ def l4(package):
                 yield file, node
             if getattr(node, "decorator_list", []):
                 yield file, node
+        for node in file.nodes(ast.FunctionDef):
+            around = file.around(node, ast.FunctionDef)
+            while around is not None:
+                if bound_in(file, node) & bound_in(file, around):
+                    yield file, node
+                around = file.around(around, ast.FunctionDef)
+
+
+def bound_in(file, function):
+    """The names that a function itself assigns, and its parameters."""
+    told = {each.id for each in ast.walk(function) if isinstance(each, ast.Name) and isinstance(each.ctx, ast.Store)
+            and file.around(each, *DEFS) is function}
+    return told | {each.arg for each in function.args.args}
 
 
 def l5(package):
@@ -324,6 +338,35 @@ def l11(package):
         for node in file.nodes(ast.For, ast.comprehension):
             if isinstance(node.iter, ast.Set) or is_call_of(node.iter, {"set", "frozenset"}):
                 yield file, node.target
+    called = {}
+    for file in package.files:
+        for node in file.nodes(ast.FunctionDef):
+            called.setdefault(node.name, set()).update(called_in(node))
+    for file in package.files:
+        for node in file.nodes(ast.FunctionDef):
+            if node.name not in DUNDERS and node.name in reached_from(node.name, called):
+                yield file, node
+
+
+def called_in(function):
+    """The names of functions that it calls, and of methods of its own kind of object."""
+    for call in calls_in(function.body):
+        if isinstance(call.func, ast.Name):
+            yield call.func.id
+        elif isinstance(call.func, ast.Attribute) and name_of(call.func.value) == "self":
+            yield call.func.attr
+
+
+def reached_from(start, ways):
+    """All that is come to from there, in whatever many steps."""
+    reached = set()
+    ahead = list(ways.get(start, ()))
+    while ahead:
+        step = ahead.pop()
+        if step not in reached:
+            reached.add(step)
+            ahead += ways.get(step, ())
+    return reached
 
 
 def l12(package):
@@ -456,14 +499,7 @@ def l16(package):
             made = made_in(by_module[node.module]) if node.module in by_module else set()
             if any(alias.name not in made for alias in node.names):
                 yield file, node
-        reached = set()
-        ahead = list(drawn[file.module()])
-        while ahead:
-            module = ahead.pop()
-            if module not in reached:
-                reached.add(module)
-                ahead += drawn.get(module, ())
-        if file.module() in reached:
+        if file.module() in reached_from(file.module(), drawn):
             yield file, 1
         if file.name.endswith("__init__.py") and (made_in(file) | set(file.imports)) & stems:
             yield file, 1
@@ -539,8 +575,15 @@ def is_bare(body, names):
     return len(calls) > 0 if names else any(isinstance(node, ast.Subscript) for node in nodes)
 
 
+def asks_objects(body):
+    """Whether something in a try may call a method of the package's own without a call's being written."""
+    return any(isinstance(node, (ast.Compare, ast.BoolOp, ast.Not, ast.IfExp, ast.If, ast.While)) or
+               is_call_of(node, {"len", "str"}) for each in body for node in ast.walk(each))
+
+
 def l19(package):
     own = package.errors()
+    asked = {"__eq__", "__len__", "__str__", "__repr__"} & package.methods
     for file in package.files:
         for node in file.nodes(ast.Try):
             for handler in node.handlers:
@@ -548,6 +591,8 @@ def l19(package):
                 if any(name not in own | {"KeyError", "ZeroDivisionError", "StopIteration", "ValueError", "LookupError",
                                           "IndexError"} for name in names):
                     yield file, handler
+                elif asked and {"ValueError", "LookupError", "IndexError"} & set(names) and asks_objects(node.body):
+                    yield file, node
                 elif {"ValueError", "LookupError"} & set(names):
                     if not is_bare(node.body, {"int", "str", "index", "remove"}):
                         yield file, node

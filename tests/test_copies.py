@@ -3,17 +3,23 @@
 import copy
 import unittest
 
-from lackstretch.errors import LackError
+from lackstretch.desk import Desk
+from lackstretch.errors import LackError, NoRules
 from lackstretch.figures import figures_of, is_good, is_rule, number_by
+from lackstretch.keeper import Keeper
 from lackstretch.lengths import count_long, greatest_good, greatest_long, is_endless, least_long, sum_long
 from lackstretch.stands import all_stands, stand_behind, step_from
 from lackstretch.sums import figures_below, often_below, sum_below
+from lackstretch.texts import read_number, read_rule, show_number, show_rule
+from lackstretch.together import all_keeping, count_keeping, keeps_all, next_keeping, one_rule
 from lackstretch.which import count_below, good_by, last_good, next_good, place_of
-from tests.things import rule_by, some_rules
+from tests.things import answer, rule_by, some_rules
 
 
 def spoil(told):
-    """All that an asker might do to a told list."""
+    """All that an asker might do to a told list, or to the list of a told rule."""
+    if isinstance(told, tuple):
+        told = told[1]
     for each in told:
         if isinstance(each, list):
             each.append(99)
@@ -21,8 +27,22 @@ def spoil(told):
     told.append([99])
 
 
+def desk_names(rows):
+    desk = Desk()
+    for row in rows:
+        desk.say(row)
+    return desk.names()
+
+
+def keepers_rule(rule, b, stretches):
+    keeper = Keeper(rule, b)
+    for stretch in stretches:
+        keeper.come(stretch)
+    return keeper.rule()
+
+
 def calls():
-    """A call and what is handed in, each of all that tells a list."""
+    """A call and what is handed in, each of all that tells a list or a rule."""
     rule = rule_by(10, "1234", "237", "9")
     return [
         (figures_of, (10, 0)), (figures_of, (10, 1234)), (figures_of, (2, 5)),
@@ -31,7 +51,26 @@ def calls():
         (all_stands, (rule,)), (all_stands, ((10, []),)), (all_stands, ((10, [[7]]),)),
         (step_from, (rule, [], 1)), (step_from, (rule, [], 0)), (step_from, (rule, [1], 2)),
         (step_from, (rule, [1, 2, 3], 0)), (step_from, ((10, []), [], 0)),
+        (all_keeping, ([rule, (2, [[1, 1]])], 50)), (all_keeping, ([rule], 0)),
+        (one_rule, ([rule],)), (one_rule, ([rule, (10, [[8], [9]])],)), (one_rule, ([(10, []), (10, [])],)),
+        (keepers_rule, (rule, 50, [[5, 5]])), (keepers_rule, (rule, 0, [])), (keepers_rule, ((10, []), 0, [])),
+        (read_rule, ("10 1234 237 9",)), (read_rule, ("10",)),
+        (desk_names, (["rule b 10", "rule a 10 13"],)), (desk_names, ([],)),
     ]
+
+
+def by_togethers():
+    """A call and what is handed in, of rules together, of Keepers and of texts; some are refused."""
+    told = []
+    for rules in [[rule_by(10, "7", "9"), rule_by(2, "11")], [rule_by(10, "12", "7"), rule_by(10, "1")], [(2, [])], [],
+                  [rule_by(10, "1", "2", "3"), rule_by(10, "5", "6", "7")], [(10, [[7], [1]])], (rule_by(10, "7"),)]:
+        for n in [0, 7, 600, 2001, -1, True, [1]]:
+            told += [(call, (rules, n)) for call in [keeps_all, count_keeping, all_keeping, next_keeping]]
+        told += [(one_rule, (rules,))]
+    for rule in [rule_by(10, "13", "7"), (10, []), rule_by(10, "1", "2", "3", "4"), (10, [[7], [1]]), [10, []]]:
+        told += [(keepers_rule, (rule, b, [stretch])) for b in [0, 50, -1] for stretch in [[5], [7], [], [True], "5"]]
+        told += [(show_rule, (rule,)), (show_number, (10, rule)), (read_rule, (rule,)), (read_number, (10, rule))]
+    return told
 
 
 def by_rules():
@@ -47,15 +86,6 @@ def by_rules():
     return told
 
 
-def answer(call, handed):
-    """What is told or refused; the kind too, as to Python True is 1."""
-    try:
-        told = call(*handed)
-    except LackError as refusal:
-        return type(refusal)
-    return (type(told), told)
-
-
 def lists_within(thing):
     told = [thing] if isinstance(thing, list) else []
     if isinstance(thing, (list, tuple)):
@@ -66,7 +96,7 @@ def lists_within(thing):
 
 class Copies(unittest.TestCase):
     def test_what_is_handed_in_stays(self):
-        whole = calls() + by_rules() + [
+        whole = calls() + by_rules() + by_togethers() + [
             (number_by, (10, [1, 2, 3])), (number_by, (10, [0, 1])), (is_rule, ((10, [[7], [1]]),)),
             (is_rule, (rule_by(10, "1", "2"),)), (is_good, (rule_by(10, "12", "3"), 312)),
             (stand_behind, (rule_by(10, "12"), [1, 2])), (stand_behind, (rule_by(10, "12"), [1, True])),
@@ -111,9 +141,24 @@ class Copies(unittest.TestCase):
         self.assertIs(is_rule(rule), False)
 
     def test_the_same_again_is_answered_the_same_by_a_rule(self):
-        first = [answer(call, handed) for call, handed in by_rules()]
-        again = [answer(call, handed) for call, handed in reversed(by_rules())]
+        first = [answer(call, *handed) for call, handed in by_rules()]
+        again = [answer(call, *handed) for call, handed in reversed(by_rules())]
         self.assertEqual(list(reversed(again)), first)
+
+    def test_the_same_again_is_answered_the_same_by_rules_together_and_texts(self):
+        first = [answer(call, *handed) for call, handed in by_togethers()]
+        again = [answer(call, *handed) for call, handed in reversed(by_togethers())]
+        self.assertEqual(list(reversed(again)), first)
+
+    def test_rules_that_were_changed_are_others(self):
+        rules = [(10, [[1]]), (10, [[2]])]
+        self.assertEqual(one_rule(rules), (10, [[1], [2]]))
+        rules[0][1][0].append(2)
+        self.assertEqual(one_rule(rules), (10, [[2]]))
+        self.assertEqual(all_keeping(rules, 4), [0, 1, 3])
+        rules.append((2, []))
+        self.assertEqual(answer(one_rule, rules), NoRules)
+        self.assertEqual(count_keeping(rules, 4), 3)
 
     def test_a_rule_that_was_changed_is_another_one(self):
         rule = (10, [[1], [2]])

@@ -103,6 +103,8 @@ BROKEN = {
         rows("def f(*xs):", "    pass"), rows("def f(**xs):", "    pass"), rows("def f(*, a):", "    pass"),
         rows("def f(a, /):", "    pass"), rows("def f(a=len([1])):", "    pass"),
         rows("def g(f):", "    return f", "@g", "def f():", "    pass"), body("return lambda *xs: 1"),
+        body("k = 1", "def g():", "    k = 2", "    return k", "return g() + k"),
+        body("def g():", "    def h():", "        a = 2", "        return a", "    return h()", "return g()"),
     ],
     "L5": [
         rows("class A:", "    value = 1"),
@@ -137,6 +139,10 @@ BROKEN = {
     ],
     "L11": [
         body("for k in set(a):", "    return k"), body("return [k for k in {1, 2}]"),
+        body("return f(a, b, n - 1, e)"),
+        rows("def f(n):", "    return g(n - 1)", "def g(n):", "    return [f(k) for k in range(n)]"),
+        rows("class A:", "    def b(self, n):", "        return self.c(n)", "    def c(self, n):",
+             "        return self.b(n - 1)"),
     ],
     "L12": [
         body("_a = 1", "return _a"), body("for _ in a:", "    pass"), rows("def _f():", "    pass"),
@@ -193,6 +199,10 @@ BROKEN = {
         body("e = ValueError('a')", "raise e"), body("try:", "    return a[0]", "except KeyError:", "    raise"),
         body("raise ValueError('a') from e"), body("try:", "    return a", "except OSError:", "    return 1"),
         body("try:", "    return int(a)", "except (KeyError, TypeError):", "    return 1"),
+        # A class of the package has __len__.
+        body("try:", "    return a[0] == 1", "except IndexError:", "    return 1"),
+        body("try:", "    return str(a)", "except ValueError:", "    return 1"),
+        body("try:", "    return int(a) if a else 0", "except ValueError:", "    return 1"),
     ],
     "L20": [
         body("return a is b"), body("return a is not 1"), body("return a is 0"),

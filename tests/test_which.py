@@ -2,7 +2,6 @@
 
 import bisect
 import random
-import sys
 import unittest
 
 from lackstretch.errors import NoGood, NoNumber, NoRule, TooMany
@@ -12,7 +11,7 @@ from lackstretch.which import count_below, good_by, last_good, next_good, place_
 from tests.by_hand import (ENDED, ENDLESS_FEW, FORBID_ALL, KINDS, WIDE, WITHOUT, Below, few_numbers, goes_on,
                            good_numbers, great_numbers, rules)
 from tests.test_stands import no_rules
-from tests.things import BASES, anything, is_int, lacks, no_numbers, rule_by, some_rules, write
+from tests.things import BASES, anything, calls_of, is_int, lacks, no_numbers, rule_by, some_rules, write
 
 TOP = 1100
 BY_NUMBERS = [count_below, good_by, next_good, last_good]
@@ -301,30 +300,17 @@ class Whole(unittest.TestCase):
 
 
 class Work(unittest.TestCase):
-    def calls_of(self, call, *handed):
-        told = [0]
-
-        def note(frame, event, what):
-            told[0] += 1
-
-        sys.setprofile(note)
-        try:
-            call(*handed)
-        finally:
-            sys.setprofile(None)
-        return told[0]
-
     def test_good_numbers_are_not_gone_through(self):
         for rule in [(2, []), (2, [[1, 1, 1]]), (10, [[1, 3], [7]]), WIDE]:
             for call in BY_NUMBERS:
                 n = rule[0] ** 20 - 1
-                self.assertLess(self.calls_of(call, rule, n), 60000, (call, rule))
+                self.assertLess(calls_of(call, rule, n), 60000, (call, rule))
 
     def test_nothing_of_a_stand_and_figures_left_is_reckoned_anew(self):
         for rule in [(2, []), (2, [[1, 1, 1]]), (10, [[1, 3], [7]]), WIDE]:
             for call in [count_below, next_good, last_good, sum_below]:
-                few = self.calls_of(call, rule, rule[0] ** 50 - 1)
-                many = self.calls_of(call, rule, rule[0] ** 200 - 1)
+                few = calls_of(call, rule, rule[0] ** 50 - 1)
+                many = calls_of(call, rule, rule[0] ** 200 - 1)
                 self.assertLess(many, 6 * few, (call, rule))
 
 

@@ -1,6 +1,9 @@
 """What the tests hand in, and plain ways of reckoning the same by texts."""
 
 import random
+import sys
+
+from lackstretch.errors import LackError
 
 SIGNS = "0123456789abcdef"
 BASES = range(2, 17)
@@ -39,6 +42,30 @@ def anything():
 
 def is_int(thing):
     return type(thing) is int
+
+
+def answer(call, *handed):
+    """What is told, or the class of the refusal; the kind too, as to Python True is 1."""
+    try:
+        told = call(*handed)
+    except LackError as refusal:
+        return type(refusal)
+    return (type(told), told)
+
+
+def calls_of(call, *handed):
+    """How many calls, and returns of calls, an answer takes."""
+    told = [0]
+
+    def note(frame, event, what):
+        told[0] += 1
+
+    sys.setprofile(note)
+    try:
+        call(*handed)
+    finally:
+        sys.setprofile(None)
+    return told[0]
 
 
 def no_numbers():
